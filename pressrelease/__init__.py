@@ -1,0 +1,1 @@
+"""Panels of buttons that release one another."""
