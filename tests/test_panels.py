@@ -2,7 +2,6 @@
 
 import unittest
 
-from pressrelease import panels
 from pressrelease.panels import is_panel, panel_error, releasers_of
 from tests.support import (
     ALONE, HUGE, NO_NUMBERS, P, Q, Checks, bare_panel, full_panel, no_buttons, sample_panels,
@@ -12,13 +11,6 @@ from tests.support import (
 
 def with_item(panel, index, item):
     return panel[:index] + (item,) + panel[index + 1:]
-
-
-class InterfaceTest(unittest.TestCase):
-    def test_defined_in_panels(self):
-        for name in ("is_panel", "panel_error", "releasers_of", "press_button", "run"):
-            self.assertEqual(getattr(panels, name).__module__, "pressrelease.panels")
-            self.assertEqual(getattr(panels, name).__name__, name)
 
 
 class PanelErrorTest(Checks, unittest.TestCase):

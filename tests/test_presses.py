@@ -6,23 +6,8 @@ from pressrelease.errors import BadRow
 from pressrelease.panels import press_button, run
 from tests.support import (
     ALONE, HUGE, NO_NUMBERS, P, Q, Checks, bare_panel, full_panel, mixed_panel, no_buttons,
-    sample_panels, sample_states, small_panels, subsets,
+    pressed, sample_panels, sample_row, sample_states, small_panels, subsets,
 )
-
-
-def pressed(panel, latched, button):
-    """What a press does, told button by button."""
-    after = []
-    for other in range(len(panel)):
-        if other == button:
-            after.append(other)
-        elif other not in panel[button] and other in latched:
-            after.append(other)
-    return tuple(after)
-
-
-def sample_row(many, length):
-    return tuple((at * at + at // 3) % many for at in range(length))
 
 
 class PressTest(Checks, unittest.TestCase):
