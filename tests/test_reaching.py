@@ -183,7 +183,7 @@ class WaysTest(Checks, unittest.TestCase):
         self.same(self.call(can_reach, Q, goal, goal), True)
         self.same(self.call(can_reach, Q, (0, 1, 2, 3), goal), False)
         self.same(self.call(find_certificate, Q, (0, 1, 2, 3), goal), ("stuck", 3, (3,)))
-        for start in ((), (0,), (1, 2), (0, 1), (0, 2, 3)):
+        for start in ((), (0,), (1, 2), (0, 1), (0, 2)):
             self.same(self.call(can_reach, Q, start, goal), False)
             self.same(self.call(find_certificate, Q, start, goal)[0], "round")
             self.same(self.call(shortest_way, Q, start, goal), None)
