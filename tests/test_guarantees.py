@@ -3,17 +3,21 @@
 import itertools
 import unittest
 
+from pressrelease.desks import Desk, Guess, GuessDesk
 from pressrelease.effects import (
     all_effects, effect_of, find_difference, plain_row, row_for, shortest_row,
 )
+from pressrelease.errors import BadState, Rejected
 from pressrelease.panels import run
 from pressrelease.reaching import (
     can_reach, certificate_holds, find_certificate, find_round, held_buttons, reachable_states,
     shortest_way, sources_of,
 )
-from pressrelease.resets import is_reset, states_after
+from pressrelease.resets import is_reset, reset_to, shortest_reset, states_after
+from pressrelease.shells import Shell
+from tests.desk_support import do, drawn_edit, drawn_edits
 from tests.support import (
-    Checks, Draws, all_states, bare_panel, drawn_panels, full_panel, mixed_panel, plain_rows,
+    P, Q, Checks, Draws, all_states, bare_panel, drawn_panels, full_panel, mixed_panel, plain_rows,
     round_panel, sample_panels, small_panels, subsets,
 )
 
@@ -143,3 +147,133 @@ class EveryButtonTest(Checks, unittest.TestCase):
             self.same(is_reset(panel, row), True)
             after = states_after(panel, tuple(all_states(many)), row)
             self.same(after, (run(panel, (), row),))
+
+
+class EditedDeskTest(Checks, unittest.TestCase):
+    """(e) What was edited before does not matter to what a desk is now."""
+
+    def like_new(self, desk, goals):
+        fresh = Desk(desk.panel, desk.latched)
+        self.same((desk.panel, desk.latched, desk.held), (fresh.panel, fresh.latched, fresh.held))
+        self.same(desk.state(), fresh.state())
+        self.same(desk.held, held_buttons(desk.panel, desk.latched))
+        self.assertTrue(desk == fresh and fresh == desk)
+        for goal in goals:
+            way = desk.way_to(goal)
+            self.same(way, fresh.way_to(goal))
+            self.same(way, shortest_way(desk.panel, desk.latched, goal))
+            self.same(list(desk.walk(goal)), list(fresh.walk(goal)))
+        for value in (None, (len(desk.panel),), [0], (True,)):
+            self.fails(BadState(value), desk.way_to, value)
+        shells = Shell(desk), Shell(fresh)
+        for line in ("latched", "held", "panel", "way none", "way 0", "way 9", "press", "way 1 0"):
+            self.same(shells[0].execute(line), shells[1].execute(line))
+
+    def change(self, draws, desk):
+        """An edit, an undo, or a batch that is done, stopped, refused or broken off."""
+        choice, batch = draws.below(7), drawn_edits(draws, desk.panel, 3)
+        if choice == 0 and len(desk):
+            desk.undo()
+        elif choice == 1:
+            desk.attempt(batch)
+        elif choice == 2:
+            desk.attempt(batch, watch=lambda busy: len(busy) % 2)
+        elif choice == 3:
+            with self.assertRaises(Rejected):
+                desk.attempt([*batch, ("link", 0, 0)])
+        elif choice == 4:
+            with self.assertRaises(ZeroDivisionError):
+                desk.attempt(batch, watch=lambda busy: 0 // (len(busy) % 2))
+        else:
+            do(desk, drawn_edit(draws, desk.panel))
+
+    def test_desks(self):
+        draws = Draws(151)
+        for panel in [P, Q] + drawn_panels(152, (1, 2, 3, 4, 5), each=1):
+            states = all_states(len(panel))
+            for make in (Desk, GuessDesk):
+                desk = make(panel, draws.state(len(panel)))
+                for _ in range(20):
+                    self.change(draws, desk)
+                    self.like_new(desk, states[draws.below(3)::3])
+
+    def test_larger_desks(self):
+        draws = Draws(153)
+        for panel in drawn_panels(154, (8, 10), each=1):
+            for make in (Desk, GuessDesk):
+                desk = make(panel, draws.state(len(panel)))
+                for _ in range(12):
+                    self.change(draws, desk)
+                self.like_new(desk, [draws.state(len(panel)) for _ in range(3)])
+
+    def test_while_a_watch_runs(self):
+        draws = Draws(155)
+        for panel in [P, Q] + drawn_panels(156, (4, 6), each=1):
+            for make in (Desk, GuessDesk):
+                desk = make(panel, draws.state(len(panel)))
+                goals = [draws.state(len(panel)) for _ in range(3)]
+                desk.attempt(
+                    drawn_edits(draws, panel, 6),
+                    watch=lambda busy: self.fresh_queries(busy, goals),
+                )
+
+    def fresh_queries(self, busy, goals):
+        fresh = Desk(busy.panel, busy.latched)
+        self.same(busy.held, fresh.held)
+        for goal in goals:
+            self.same(busy.way_to(goal), fresh.way_to(goal))
+            self.same(list(busy.walk(goal)), list(fresh.walk(goal)))
+
+
+class EditedPanelTest(Checks, unittest.TestCase):
+    """(a) to (d) and (f) for the panels and states of desks that were edited."""
+
+    def desks(self, seed, sizes):
+        draws = Draws(seed)
+        for panel in [P, Q] + drawn_panels(seed, sizes, each=1):
+            desk = GuessDesk(panel, draws.state(len(panel)))
+            for _ in range(3):
+                desk.attempt(drawn_edits(draws, desk.panel, 10))
+                yield desk, draws
+
+    def test_effects_and_guesses(self):
+        for desk, draws in self.desks(157, (3, 5, 6)):
+            row = draws.row(len(desk.panel), 6)
+            guess, copy = Guess(desk.panel), GuessDesk(desk.panel, desk.latched)
+            for button in row:
+                guess.note(button)
+                copy.press(button)
+            self.same(guess.known, effect_of(desk.panel, plain_row(row)))
+            self.same(copy.known, effect_of(desk.panel, shortest_row(desk.panel, row)))
+            self.same("same" not in copy.known, is_reset(desk.panel, row))
+
+    def test_ways_and_certificates(self):
+        for desk, draws in self.desks(158, (3, 5, 8)):
+            for _ in range(4):
+                goal = draws.state(len(desk.panel))
+                found = find_certificate(desk.panel, desk.latched, goal)
+                self.same(certificate_holds(desk.panel, desk.latched, goal, found), True)
+                self.same(desk.way_to(goal) is None, found[0] != "row")
+                self.same(desk.latched in sources_of(desk.panel, goal), found[0] == "row")
+                steps = [("press", button) for button in desk.way_to(goal) or ()]
+                if found[0] == "row":
+                    other = Desk(desk.panel, desk.latched)
+                    self.same(other.attempt(steps), len(steps))
+                    self.same(other.latched, goal)
+                    row = ("row", desk.way_to(goal))
+                    self.same(certificate_holds(desk.panel, desk.latched, goal, row), True)
+
+    def test_nothing_latched_and_every_button(self):
+        for desk, draws in self.desks(159, (3, 5, 7)):
+            many = len(desk.panel)
+            empty = Desk(desk.panel, ())
+            for goal in [draws.state(many) for _ in range(4)]:
+                never = empty.way_to(goal) is None
+                self.same(never, find_round(desk.panel, goal) is not None)
+                self.same(never, Desk(desk.panel, goal).held != ())
+            row = tuple(range(many))
+            guess = Guess(desk.panel)
+            self.same([guess.note(button) for button in row][-1], True)
+            self.same(is_reset(desk.panel, shortest_reset(desk.panel)), True)
+            last = run(desk.panel, (), row)
+            self.same(run(desk.panel, desk.latched, reset_to(desk.panel, last)), last)
