@@ -227,9 +227,9 @@ class Desk:
         way = self.way_to(goal)
         if way is None:
             return
-        latched = self.latched
+        panel, latched = self.state()
         for button in way:
-            latched = press_button(self.panel, latched, button)
+            latched = press_button(panel, latched, button)
             yield (button, latched)
 
     def edits(self):
